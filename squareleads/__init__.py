@@ -1,0 +1,1 @@
+"""Squareleads: whole numbers made of squares, or of triangles."""
