@@ -3,30 +3,8 @@
 import itertools
 import unittest
 
+from plain import NO_NUMBERS, plain_making, plain_shape
 from squareleads import shapes
-
-# What is no whole number at all, True and False first among them.
-NO_NUMBERS = (True, False, None, "", "1", b"1", [], [1], (), (1,), {}, {1: 1}, {1}, object(), int)
-
-
-def plain_shape(kind, root):
-    """Add a shape up step by step, apart from the program's own arithmetic."""
-    total = 0
-    for step in range(1, root + 1):
-        total += root if kind == 0 else step
-    return total
-
-
-def plain_making(kind, number, roots):
-    """Go down the list as the words of point 2 go."""
-    left = number
-    ahead = None
-    for root in roots:
-        if root < 1 or (ahead is not None and root > ahead):
-            return False
-        left -= plain_shape(kind, root)
-        ahead = root
-    return left == 0
 
 
 class NumberTests(unittest.TestCase):
